@@ -11,6 +11,10 @@ WORDS_LEFT_OUT = (
     " namedtuple NamedTuple TypedDict TYPE_CHECKING abstractmethod"
 ).split()
 PARTS_LEFT_OUT = ("dataclass", "overload", "contextmanager")
+FORMS_LEFT_OUT = (
+    "With Match Delete Global Nonlocal Assert Yield YieldFrom Await AsyncFunctionDef AsyncFor AsyncWith TryStar"
+    " GeneratorExp SetComp DictComp NamedExpr Starred Div MatMult"
+).split()
 
 
 class Language(unittest.TestCase):
@@ -38,6 +42,23 @@ class Language(unittest.TestCase):
             for word in re.findall(r"\w+", text):
                 self.assertNotIn(word, WORDS_LEFT_OUT, path)
                 self.assertFalse([part for part in PARTS_LEFT_OUT if part in word], path)
+
+    def test_forms(self):
+        for path, text in self.texts.items():
+            for node in ast.walk(ast.parse(text)):
+                place = (path, getattr(node, "lineno", None))
+                self.assertNotIn(node.__class__.__name__, FORMS_LEFT_OUT, place)
+                for part in ("decorator_list", "finalbody"):
+                    self.assertFalse(getattr(node, part, []), place)
+                if isinstance(node, (ast.For, ast.While)):
+                    self.assertEqual(node.orelse, [], place)
+                if isinstance(node, ast.Assign):
+                    self.assertEqual(len(node.targets), 1, place)
+                if isinstance(node, ast.ListComp):
+                    self.assertEqual(len(node.generators), 1, place)
+                    self.assertLessEqual(len(node.generators[0].ifs), 1, place)
+                if isinstance(node, ast.Constant):
+                    self.assertNotIsInstance(node.value, (float, complex, bytes), place)
 
     def test_imports_are_the_packages_own(self):
         for path, text in self.texts.items():
