@@ -8,9 +8,7 @@ GUARD = 1
 
 
 def claims(game, mine, yours, whose):
-    taken = mine + yours
-    free = tuple([point for point in range(game[0][0]) if point not in taken])
-    return choices(free, at_a_time(game, whose))
+    return choices(free_points(game[0], mine, yours), at_a_time(game, whose))
 
 
 def claimed(game, mine, yours, whose, claim):
@@ -50,6 +48,11 @@ def at_a_time(game, whose):
 
 def other_hand(hand):
     return GUARD if hand == BUILDER else BUILDER
+
+
+def free_points(field, mine, yours):
+    taken = mine + yours
+    return tuple([point for point in range(field[0]) if point not in taken])
 
 
 def has_all(points, line):

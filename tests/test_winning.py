@@ -1,12 +1,13 @@
 import unittest
-from itertools import combinations
 
 from plain_judge import (
+    FIELDS,
     FORK,
     SQUARE,
     all_counts,
-    all_lines,
+    all_fields,
     all_positions,
+    games_of,
     plain_behind,
     plain_claims,
     plain_decided,
@@ -15,29 +16,6 @@ from plain_judge import (
 )
 
 from fieldclaim.winning import good_claims, winner, winner_from
-
-# Fields whose lines lie in one another, beside one another, over one another; with idle points too.
-FIELDS = (
-    (1, ()),
-    (1, ((0,),)),
-    (2, ((0,), (1,))),
-    (2, ((0, 1),)),
-    (3, ((0, 1), (0, 2))),
-    (3, ((0, 1), (0, 2), (1, 2))),
-    (3, ((0,), (0, 1, 2), (1, 2))),
-    (4, ((0, 1), (2, 3))),
-    (4, ((0, 1, 2, 3), (1,), (2, 3))),
-    (4, ((1, 2),)),
-    (4, ((0, 1), (0, 2), (0, 3))),
-    (5, ((0, 1, 2), (2, 3, 4))),
-    (5, ((0, 1), (1, 2), (2, 3), (3, 4))),
-    (5, ((1, 2, 3, 4),)),
-    (5, ((0, 1, 2), (0, 3, 4), (1, 2, 3), (2, 4))),
-)
-
-
-def games_of(field):
-    return [(field, first, builds, guards) for first in (0, 1) for builds, guards in all_counts()]
 
 
 class ByHand(unittest.TestCase):
@@ -122,11 +100,10 @@ class Judged(unittest.TestCase):
                         self.assertEqual(repr(told), repr((plain_winner(game, mine, yours, whose), good)))
 
     def test_all_fields_of_three_points(self):
-        for size in range(8):
-            for lines in combinations(all_lines(3), size):
-                for game in games_of((3, lines)):
-                    self.assertEqual(repr(winner(game)), repr(plain_winner(game, (), (), game[1])))
-                    self.assertEqual(good_claims(game, (), (), game[1]), plain_good(game, (), (), game[1]))
+        for field in all_fields(3, 7):
+            for game in games_of(field):
+                self.assertEqual(repr(winner(game)), repr(plain_winner(game, (), (), game[1])))
+                self.assertEqual(good_claims(game, (), (), game[1]), plain_good(game, (), (), game[1]))
 
     def test_the_square_of_nine_points(self):
         for first, builds, guards in ((0, 1, 1), (1, 1, 1), (0, 2, 2), (1, 2, 1), (0, 1, 2), (1, 3, 3)):
